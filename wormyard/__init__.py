@@ -1,0 +1,1 @@
+"""Wormyard: long letters in a yard of lanes."""
