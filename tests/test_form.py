@@ -1,6 +1,8 @@
-"""The form of the package's files, as far as it can be looked at row by row (L1, L2, L5 to L8, L10, L14, L16 to L18)."""
+"""The form of the package's files, as far as it can be looked at row by row (L1, L2, L5 to L8, L10, L14 to L18,
+L20, L25, L27)."""
 
 import ast
+import builtins
 import pathlib
 import re
 import unittest
@@ -13,6 +15,10 @@ BUILTINS = (
     "len range enumerate zip min max sum abs sorted reversed int str bool list tuple dict set frozenset isinstance "
     "ord repr any all divmod Exception ValueError TypeError KeyError IndexError LookupError ZeroDivisionError "
     "ArithmeticError OverflowError RuntimeError NotImplementedError AttributeError StopIteration").split()
+METHODS = (
+    "append clear copy count endswith extend find get index insert isalnum isalpha isdigit islower isspace isupper "
+    "items join keys ljust lower lstrip partition pop remove replace reverse rfind rjust rpartition rsplit rstrip "
+    "setdefault split splitlines startswith strip update upper values zfill bit_length").split()
 OUT = (ast.With, ast.Match, ast.Delete, ast.Global, ast.Nonlocal, ast.Assert, ast.Yield, ast.YieldFrom, ast.Await,
        ast.AsyncFunctionDef, ast.AsyncFor, ast.AsyncWith, ast.SetComp, ast.DictComp, ast.GeneratorExp, ast.NamedExpr,
        ast.Starred, ast.Div, ast.Import)
@@ -97,6 +103,36 @@ class TestRows(unittest.TestCase):
                    for node in owner.body if isinstance(node, ast.FunctionDef)}
         values = {node.attr for _, node in nodes(ast.Attribute) if isinstance(node.ctx, ast.Store)}
         self.assertEqual(methods & values, set())
+
+
+    def test_no_local_is_called_like_a_class_or_an_import_or_a_name_of_pythons_own(self):
+        for name, tree in trees():
+            taken = set(dir(builtins))
+            taken |= {alias.name for node in tree.body if isinstance(node, ast.ImportFrom) for alias in node.names}
+            taken |= {node.name for node in tree.body if isinstance(node, ast.ClassDef)}
+            for node in ast.walk(tree):
+                if isinstance(node, ast.arg):
+                    self.assertNotIn(node.arg, taken, (name, node.lineno))
+                if isinstance(node, ast.Name) and isinstance(node.ctx, ast.Store):
+                    self.assertNotIn(node.id, taken, (name, node.lineno))
+
+    def test_only_listed_methods_of_pythons_own_are_called(self):
+        own = {node.name for _, node in nodes(ast.FunctionDef)} | set(METHODS)
+        for name, node in nodes(ast.Call):
+            if isinstance(node.func, ast.Attribute):
+                self.assertIn(node.func.attr, own, (name, node.lineno))
+
+    def test_is_stands_beside_none_and_truths_alone(self):
+        for name, node in nodes(ast.Compare):
+            if isinstance(node.ops[0], (ast.Is, ast.IsNot)):
+                right = node.comparators[0]
+                self.assertIsInstance(right, ast.Constant, (name, node.lineno))
+                self.assertIn(right.value, (None, True, False), (name, node.lineno))
+
+    def test_no_sign_of_a_remainder_within_a_text(self):
+        for name, node in nodes(ast.Constant):
+            if isinstance(node.value, str):
+                self.assertNotIn("%", node.value, (name, node.lineno))
 
 
 class TestDrawing(unittest.TestCase):

@@ -18,6 +18,12 @@ def row_fits(land, row):
     return all([is_one_of(lane, begin_here) for lane in row[3]])
 
 
+def onward(table, lane, goal):
+    """Tell the ways at a lane's end, for a goal, come by this lane; none where the lane ends at the goal."""
+    end = table.land.end_of(lane)
+    return [] if end == goal else table.ways(end, goal, lane)
+
+
 class Table:
     """A plain table: it has a land and tells no ways anywhere."""
 
