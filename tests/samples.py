@@ -5,6 +5,7 @@ import random
 from wormyard.lands import Land
 from wormyard.makers import Loop, Nearer, RowFirst, Tree
 from wormyard.tables import Table, Told
+from wormyard.yards import Yard
 
 SIZES = [(wide, high) for wide in range(1, 13) for high in range(1, 13) if wide * high <= 12]
 TREES = [[], [0], [0, 0], [0, 1], [0, 1, 2, 3, 4, 5, 6, 7, 8, 9, 10], [0] * 11, [0, 0, 1, 1, 2, 2, 3, 3, 4, 4, 5],
@@ -161,3 +162,82 @@ def moves_of(table):
         if end != goal:
             moves |= {(lane, goal, way) for way in table.ways(end, goal, lane)}
     return moves
+
+
+def some_yard(chance, table, letters, length, room):
+    """A yard with rooms of at most room and at most so many letters of at most so long a length, none moved yet."""
+    yard = Yard(table, [chance.randint(1, room) for lane in table.land.lanes])
+    pairs = [(place, goal) for (place, goal, came), lanes in all_ways(table).items() if came is None and lanes]
+    for number in range(letters if pairs else 0):
+        start, goal = chance.choice(pairs)
+        yard.post(start, goal, chance.randint(1, length), chance.randint(-9, 9))
+    return yard
+
+
+def stood(yard):
+    """All that is told of a yard but its history."""
+    land = yard.table.land
+    return ([yard.lane_told(lane) for lane in range(len(land.lanes))],
+            [yard.letter_told(number) for number in range(yard.posted())],
+            [yard.way_told(number) for number in range(yard.posted())],
+            [yard.lying(place) for place in range(land.places)], yard.posted(), yard.ended())
+
+
+def all_told(yard):
+    return stood(yard), yard.history(), yard.moves()
+
+
+def wanted_by_told(yard, lane):
+    """What the front of a lane wants, by what the yard tells of lanes, letters and ways; None where it would lie."""
+    end = yard.table.land.lanes[lane][1]
+    number, count = yard.lane_told(lane)[3][0]
+    goal, way = yard.letter_told(number)[1], yard.way_told(number)
+    if goal == end:
+        return None
+    if count == 0:
+        return sorted(set(yard.table.ways(end, goal, lane)) - set(way))
+    return [way[way.index(lane) + 1]]
+
+
+def is_open_by_told(yard, lane, number, count):
+    rights, back, holder, pieces = yard.lane_told(lane)
+    return rights > 0 and holder == (None if count == 0 else number)
+
+
+def moves_by_told(yard):
+    """The moves that may be made, by what the yard tells of lanes, letters, ways and places, put in order by words."""
+    lanes = range(len(yard.table.land.lanes))
+    away = [piece for lane in lanes for piece in yard.lane_told(lane)[3]]
+    away += [piece for place in range(yard.table.land.places) for piece in yard.lying(place)]
+    found = [("back", lane) for lane in lanes if yard.lane_told(lane)[1] > 0]
+    for number in range(yard.posted()):
+        start, goal, length, word = yard.letter_told(number)
+        counts = [count for count in range(length) if (number, count) not in away]
+        if counts:
+            first = yard.table.ways(start, goal, None) if counts[0] == 0 else yard.way_told(number)[:1]
+            found += [("in", number, lane) for lane in first if is_open_by_told(yard, lane, number, counts[0])]
+    for lane in lanes:
+        if yard.lane_told(lane)[3]:
+            number, count = yard.lane_told(lane)[3][0]
+            wanted = wanted_by_told(yard, lane)
+            if wanted is None:
+                found.append(("lie", lane))
+            else:
+                found += [("on", lane, other) for other in wanted if is_open_by_told(yard, other, number, count)]
+    return sorted(found, key=lambda move: (["in", "on", "lie", "back"].index(move[0]),) + move[1:])
+
+
+def do_some(chance, yard, most):
+    """Make moves by chance, and tell the yard behind each of them."""
+    for number in range(most):
+        moves = yard.moves()
+        if not moves:
+            return
+        yard.do(chance.choice(moves))
+        yield yard
+
+
+def some_yards(seed, letters=4, length=4, room=3):
+    """Yards of many tables: told ones, Nearer and those made by rules."""
+    chance = random.Random(seed)
+    return [some_yard(chance, table, letters, length, room) for table in all_tables()]
