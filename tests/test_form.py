@@ -1,5 +1,5 @@
-"""The form of the package's files, as far as it can be looked at row by row (L1, L2, L5 to L8, L10, L14 to L18,
-L20, L25, L27)."""
+"""The form of the package's files, as far as it can be looked at row by row (L1 to L8, L10, L14 to L21, L24, L25,
+L27)."""
 
 import ast
 import builtins
@@ -104,6 +104,45 @@ class TestRows(unittest.TestCase):
         values = {node.attr for _, node in nodes(ast.Attribute) if isinstance(node.ctx, ast.Store)}
         self.assertEqual(methods & values, set())
 
+    def test_the_top_of_a_file(self):
+        for name, tree in trees():
+            bound = []
+            for number, node in enumerate(tree.body):
+                if number == 0:
+                    self.assertIsInstance(node.value.value, str, name)
+                    continue
+                self.assertIsInstance(node, (ast.ImportFrom, ast.FunctionDef, ast.ClassDef, ast.Assign), name)
+                if isinstance(node, ast.Assign):
+                    bound += [target.id for target in node.targets]
+                    for part in ast.walk(node.value):
+                        self.assertIsInstance(part, (ast.Constant, ast.Tuple, ast.Dict, ast.Name, ast.Load), name)
+                elif isinstance(node, ast.ImportFrom):
+                    bound += [alias.name for alias in node.names]
+                else:
+                    bound.append(node.name)
+            self.assertEqual(len(bound), len(set(bound)), name)
+
+    def test_functions_and_classes_stand_where_they_may(self):
+        for name, node in nodes(ast.ClassDef):
+            self.assertLessEqual(len(node.bases), 1, (name, node.name))
+            for part in node.body:
+                self.assertIsInstance(part, (ast.FunctionDef, ast.Expr), (name, node.name))
+
+    def test_refusals_alone_are_taken(self):
+        refusals = {node.name for name, node in nodes(ast.ClassDef) if name == "errors.py"}
+        for name, node in nodes(ast.ExceptHandler):
+            self.assertIn(node.type.id, refusals, (name, node.lineno))
+        for name, node in nodes(ast.Raise):
+            self.assertIn(node.exc.func.id, refusals, (name, node.lineno))
+
+    def test_no_annotations_and_no_sets(self):
+        for name, node in nodes(ast.FunctionDef):
+            self.assertIsNone(node.returns, (name, node.lineno))
+            self.assertEqual([arg.arg for arg in node.args.args if arg.annotation], [], (name, node.lineno))
+        for name, node in nodes((ast.AnnAssign, ast.Set)):
+            self.fail(f"{name}, row {node.lineno}")
+        for name, node in nodes(ast.Name):
+            self.assertNotIn(node.id, ("set", "frozenset"), (name, node.lineno))
 
     def test_no_local_is_called_like_a_class_or_an_import_or_a_name_of_pythons_own(self):
         for name, tree in trees():

@@ -62,8 +62,9 @@ def search(yard, most):
     seen = {yard.stand(): True}
     looked_at = 0
     while looked_at < len(line):
-        for move in line[looked_at].moves():
-            other = line[looked_at].bare_twin()
+        here = line[looked_at]
+        for move in here.moves():
+            other = here.bare_twin()
             other.do(move)
             stand = other.stand()
             if stand not in seen:
